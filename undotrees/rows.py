@@ -6,11 +6,16 @@ from undotrees.errors import NoNumber, NoRow, NoSign
 MOST_SIGNS = 60
 
 
-def is_row(thing):
-    """Whether a thing, of anything, is a row."""
-    if not isinstance(thing, str) or len(thing) > MOST_SIGNS:
+def has_signs(thing, most):
+    """Whether a thing, of anything, is a text of none to so many signs."""
+    if not isinstance(thing, str) or len(thing) > most:
         return False
     return all([sign in SIGNS for sign in thing])
+
+
+def is_row(thing):
+    """Whether a thing, of anything, is a row."""
+    return has_signs(thing, MOST_SIGNS)
 
 
 def check_row(row):
@@ -19,22 +24,43 @@ def check_row(row):
         raise NoRow(row)
 
 
+# What comes between rows may be longer than a row, so these three take signs of any number.
+
+def turned(signs):
+    """The contraries of signs, the last one first."""
+    return "".join([CONTRARIES[sign] for sign in signs[::-1]])
+
+
+def gone_on(place, sign):
+    """A plain row with a sign behind it, made plain."""
+    if place and place[-1] == CONTRARIES[sign]:
+        return place[:-1]
+    return place + sign
+
+
+def made_plain(signs):
+    """Signs without neighbours of which each is the contrary of the other."""
+    place = ""
+    for sign in signs:
+        place = gone_on(place, sign)
+    return place
+
+
 def contrary(row):
     """The row with the contraries of the signs, the last one first."""
     check_row(row)
-    return "".join([CONTRARIES[sign] for sign in row[::-1]])
+    return turned(row)
 
 
 def plain(row):
     """The row without neighbours of which each is the contrary of the other."""
     check_row(row)
-    signs = []
-    for sign in row:
-        if signs and signs[-1] == CONTRARIES[sign]:
-            signs.pop()
-        else:
-            signs.append(sign)
-    return "".join(signs)
+    return made_plain(row)
+
+
+def is_plain(thing):
+    """Whether a thing, of anything, is a plain row."""
+    return is_row(thing) and made_plain(thing) == thing
 
 
 def deeds_of(row):

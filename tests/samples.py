@@ -1,0 +1,133 @@
+"""What tests share: rows, worlds and odd things, and walks told anew from the document's words."""
+
+import itertools
+import random
+
+from undotrees.worlds import World
+
+ALL_SIGNS = "aAbBcCdDeEfF"
+
+
+class Hostile:
+    """All that may be asked of it fails."""
+
+    def __eq__(self, other):
+        raise RuntimeError("asked")
+
+    __ne__ = __lt__ = __le__ = __gt__ = __ge__ = __eq__
+    __contains__ = __getitem__ = __eq__
+
+    def __len__(self):
+        raise RuntimeError("asked")
+
+    __iter__ = __bool__ = __int__ = __index__ = __str__ = __repr__ = __len__
+    __hash__ = None
+
+
+ODD_THINGS = (None, True, False, 0, 1, -1, 61, 10 ** 60, 1.5, "", "a", "x", "less", [], [0], ["a"], (), (0,), ("a",),
+              ("less", 0, 1, 2), {}, {"a": 1}, {"a"}, b"", b"a", object(), len, str, World, World(2), Hostile(),
+              [Hostile()], (Hostile(),), (Hostile(), Hostile()), (Hostile(), 0, 1))
+
+NO_ROWS = ("a" * 61, "aB" * 31, "F" * 6000, "g", "G", "abg", "a1", "-", " ", "a b", " a", "a ", "\t", "a\n", "ab\ncd",
+           None, True, False, 0, 1, 60, 1.5, [], ["a"], (), ("a",), {}, {"a": 1}, {"a"}, b"", b"ab", object(), len,
+           Hostile())
+
+
+def all_rows(signs, most):
+    for many in range(most + 1):
+        for row in itertools.product(signs, repeat=many):
+            yield "".join(row)
+
+
+def some_row(source, least=0, most=60):
+    """Some row, over few deeds often, so that much is taken back."""
+    signs = ALL_SIGNS[:2 * source.randint(1, 6)]
+    return "".join(source.choice(signs) for place in range(source.randint(least, most)))
+
+
+def back_and_forth(source, most=60):
+    """Some row that often goes back the way that it came."""
+    row, way = "", ""
+    for place in range(most):
+        if way and source.random() < 0.5:
+            sign = swapped(way[-1])
+        else:
+            sign = source.choice(ALL_SIGNS[:4])
+        row += sign
+        way = taken_out(way + sign)
+    return row
+
+
+def swapped(row):
+    """The contrary of a row."""
+    other = ""
+    for sign in row:
+        other = (sign.upper() if sign.islower() else sign.lower()) + other
+    return other
+
+
+def taken_out(row):
+    """The row made plain: two neighbours go, again and again."""
+    at = 0
+    while at < len(row) - 1:
+        if row[at] == swapped(row[at + 1]):
+            row = row[:at] + row[at + 2:]
+            at = max(at - 1, 0)
+        else:
+            at += 1
+    return row
+
+
+def order(row):
+    """Python sorts by this as rows are ordered."""
+    return len(row), [ALL_SIGNS.index(sign) for sign in row]
+
+
+def places_of(row):
+    """The places of a row: its beginnings made plain, in the order of rows."""
+    return sorted({taken_out(row[:many]) for many in range(len(row) + 1)}, key=order)
+
+
+def shape_of(row):
+    """The places and the end of a row, as what may be a key."""
+    return tuple(places_of(row)), taken_out(row)
+
+
+def some_tree(source, places, signs=ALL_SIGNS):
+    """The places of some tree, in some order."""
+    tree = [""]
+    while len(tree) < places:
+        place = source.choice(tree)
+        sign = source.choice(signs)
+        if place[-1:] != swapped(sign) and place + sign not in tree:
+            tree.append(place + sign)
+    source.shuffle(tree)
+    return tree
+
+
+def some_world(source, most=6):
+    """Some world, and a list of all that is laid in it, of its own."""
+    things = source.randint(1, most)
+    world, laid = World(things), []
+    for deed in "abcdef"[:source.randint(1, 6)]:
+        many = source.randint(0, things)
+        ends = source.sample(range(things), many)
+        for one, other in zip(source.sample(range(things), many), ends):
+            world.lay(deed, one, other)
+            laid.append((deed, one, other))
+    return world, laid
+
+
+def done(laid, row, thing):
+    """Where a row of any length leads, by looking through all that is laid for each sign."""
+    on = {(deed, one): other for deed, one, other in laid}
+    on.update({(deed.upper(), other): one for deed, one, other in laid})
+    for sign in row:
+        if (sign, thing) not in on:
+            return None
+        thing = on[sign, thing]
+    return thing
+
+
+def source_of(seed):
+    return random.Random(seed)
