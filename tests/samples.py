@@ -93,6 +93,51 @@ def shape_of(row):
     return tuple(places_of(row)), taken_out(row)
 
 
+def expected(row, step):
+    """What comes of a step, from the document's words: all parts are cut out and compared."""
+    word, at, many = step[:3]
+    part = row[at:at + many]
+    if many < 1 or len(part) < many:
+        return None
+    if word == "more":
+        return row[:at] + part + swapped(part) + part + row[at + many:]
+    if word == "less":
+        three = part + swapped(part) + part
+        return row[:at] + part + row[at + len(three):] if row[at:].startswith(three) else None
+    first = part + swapped(part)
+    other = row[at + len(first):at + len(first) + step[3]]
+    second = other + swapped(other)
+    if len(other) < step[3] or step[3] < 1 or not row[at:].startswith(first + second):
+        return None
+    return row[:at] + second + first + row[at + len(first + second):]
+
+
+def put_in(source, row):
+    """The row with a part, its contrary and it again in place of a part."""
+    at = source.randint(0, len(row))
+    behind = source.randint(at, len(row))
+    return row[:behind] + swapped(row[at:behind]) + row[at:]
+
+
+def some_walking(source, places, end):
+    """Some row that walks a tree, whose places are told in any order, to its end; none has fewer signs."""
+    row, at, gone = "", "", {""}
+    while True:
+        on = [place for place in places if place not in gone and place[:-1] == at and not end.startswith(place)]
+        if on:
+            at = source.choice(on)
+            gone.add(at)
+            row += at[-1]
+        elif not end.startswith(at):
+            row += swapped(at[-1])
+            at = at[:-1]
+        elif at != end:
+            row += end[len(at)]
+            at = end[:len(at) + 1]
+        else:
+            return row
+
+
 def some_tree(source, places, signs=ALL_SIGNS):
     """The places of some tree, in some order."""
     tree = [""]

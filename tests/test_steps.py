@@ -2,7 +2,7 @@
 
 import unittest
 
-from samples import ALL_SIGNS, ODD_THINGS, Hostile, done, shape_of, some_row, some_world, source_of, swapped
+from samples import (ALL_SIGNS, ODD_THINGS, Hostile, done, expected, shape_of, some_row, some_world, source_of, swapped)
 from undotrees.errors import NoRow, NoStep
 from undotrees.steps import is_long_row, led_on, stepped
 
@@ -194,25 +194,6 @@ def all_steps(row):
             yield ("more", at, many)
             for others in numbers:
                 yield ("past", at, many, others)
-
-
-def expected(row, step):
-    """What comes of a step, from the document's words: all parts are cut out and compared."""
-    word, at, many = step[:3]
-    part = row[at:at + many]
-    if many < 1 or len(part) < many:
-        return None
-    if word == "more":
-        return row[:at] + part + swapped(part) + part + row[at + many:]
-    if word == "less":
-        three = part + swapped(part) + part
-        return row[:at] + part + row[at + len(three):] if row[at:].startswith(three) else None
-    first = part + swapped(part)
-    other = row[at + len(first):at + len(first) + step[3]]
-    second = other + swapped(other)
-    if len(other) < step[3] or step[3] < 1 or not row[at:].startswith(first + second):
-        return None
-    return row[:at] + second + first + row[at + len(first + second):]
 
 
 class AllSteps(unittest.TestCase):

@@ -3,7 +3,7 @@
 import itertools
 import unittest
 
-from samples import (NO_ROWS, ODD_THINGS, Hostile, all_rows, back_and_forth, done, places_of, shape_of, some_row,
+from samples import (NO_ROWS, ODD_THINGS, Hostile, all_rows, back_and_forth, done, places_of, put_in, shape_of, some_row,
                      some_world, source_of, swapped)
 from undotrees.errors import NoRow
 from undotrees.unlike import same, tells_unlike, unlike
@@ -21,13 +21,6 @@ def world_of(things, *laid):
     for deed, one, other in laid:
         world.lay(deed, one, other)
     return world
-
-
-def put_in(source, row):
-    """The row with a part, its contrary and it again in place of a part."""
-    at = source.randint(0, len(row))
-    behind = source.randint(at, len(row))
-    return row[:behind] + swapped(row[at:behind]) + row[at:]
 
 
 class Same(unittest.TestCase):
