@@ -211,6 +211,16 @@ class Rows(unittest.TestCase):
             self.assertIsInstance(node.exc, ast.Call, (name, node.lineno))
             self.assertIn(node.exc.func.id, own, (name, node.lineno))
 
+    def test_only_own_errors_are_caught(self):
+        own = {row.name for row in TREES["errors"].body if isinstance(row, ast.ClassDef)}
+        for name, node in nodes(ast.ExceptHandler):
+            for each in node.type.elts if isinstance(node.type, ast.Tuple) else [node.type]:
+                self.assertIn(each.id, own, (name, node.lineno))
+
+    def test_sorted_instead_of_sort(self):
+        # Classes have __eq__ and __len__, so no list is sorted where it stands.
+        self.assertEqual([name for name, node in nodes(ast.Attribute) if node.attr == "sort"], [])
+
 
 if __name__ == "__main__":
     unittest.main()
