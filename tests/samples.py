@@ -1,5 +1,6 @@
 """What tests share: rows, worlds and odd things, and walks told anew from the document's words."""
 
+import functools
 import itertools
 import random
 
@@ -172,6 +173,77 @@ def done(laid, row, thing):
             return None
         thing = on[sign, thing]
     return thing
+
+
+def some_machine(source, most=8, deeds=3):
+    """The rooms, ways and goal of some machine."""
+    rooms = source.randint(1, most)
+    ways = []
+    for room in range(1, rooms):
+        two = [room, source.randrange(room)]
+        source.shuffle(two)
+        ways.append((two[0], source.choice("abcdef"[:deeds]), two[1]))
+    for number in range(source.randint(0, rooms)):
+        ways.append((source.randrange(rooms), source.choice("abcdef"[:deeds]), source.randrange(rooms)))
+    source.shuffle(ways)
+    return rooms, ways, source.randrange(rooms)
+
+
+def rooms_by(ways, row, rooms=(0,)):
+    """The rooms to which one comes by a row, by looking through all ways for each sign."""
+    now = set(rooms)
+    for sign in row:
+        if sign.islower():
+            now = {other for one, deed, other in ways if deed == sign and one in now}
+        else:
+            now = {one for one, deed, other in ways if deed == sign.lower() and other in now}
+    return now
+
+
+def folds_of(ways):
+    """The rooms that must be one, by looking at each two ways."""
+    found = set()
+    for (one, deed, other), (first, sign, last) in itertools.product(ways, repeat=2):
+        if deed == sign and one == first and other < last:
+            found.add((other, last))
+        if deed == sign and other == last and one < first:
+            found.add((one, first))
+    return sorted(found)
+
+
+def put_together(rooms, ways, goal, one, other):
+    """The rooms, the sorted ways and the goal where two rooms are one."""
+    order = [room for room in range(rooms) if room != max(one, other)]
+    number = {room: order.index(min(one, other) if room == max(one, other) else room) for room in range(rooms)}
+    moved = {(number[first], deed, number[last]) for first, deed, last in ways}
+    return rooms - 1, sorted(moved), number[goal]
+
+
+def one_by_looks(rooms, ways):
+    """For each two rooms that are one where a machine is folded a row that leads from the one to the other and looks.
+
+    Such are rows that come, made plain, to nothing: a way and back round such a row, and two of them in a row.
+    """
+    return looks_through(rooms, tuple(ways))
+
+
+@functools.lru_cache(maxsize=8)
+def looks_through(rooms, ways):
+    looks = {(room, room): "" for room in range(rooms)}
+    more = True
+    while more:
+        more = {}
+        for sign in ALL_SIGNS:
+            for (one, other), row in looks.items():
+                for first in rooms_by(ways, swapped(sign), (one,)):
+                    for last in rooms_by(ways, swapped(sign), (other,)):
+                        more.setdefault((first, last), sign + row + swapped(sign))
+        for (one, middle), (begin, other) in itertools.product(looks, repeat=2):
+            if middle == begin:
+                more.setdefault((one, other), looks[one, middle] + looks[middle, other])
+        more = {two: row for two, row in more.items() if two not in looks}
+        looks.update(more)
+    return looks
 
 
 def source_of(seed):
