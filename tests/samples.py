@@ -33,6 +33,15 @@ NO_ROWS = ("a" * 61, "aB" * 31, "F" * 6000, "g", "G", "abg", "a1", "-", " ", "a 
            None, True, False, 0, 1, 60, 1.5, [], ["a"], (), ("a",), {}, {"a": 1}, {"a"}, b"", b"ab", object(), len,
            Hostile())
 
+# What are no told pairs, each with the number that its refusal has.
+NO_PAIRS = (((), None), ((("a", "b"),), None), ("", None), ("ab", None), (0, None), (True, None), (False, None),
+            ({}, None), ({("a", "b"): 1}, None), (b"", None), (object(), None), (Hostile(), None),
+            ([("a", "b")] * 5, None), ([None] * 5, None), ([Hostile()] * 9, None), ([None], 0), ([()], 0), ([("a",)], 0),
+            ([("a", "b", "c")], 0), ([["a", "b"]], 0), (["ab"], 0), ([("a", None)], 0), ([(None, "a")], 0),
+            ([("a", "x")], 0), ([("a" * 13, "")], 0), ([("", "a" * 13)], 0), ([("a", "-")], 0), ([("a", ["b"])], 0),
+            ([(Hostile(), "a")], 0), ([("a", Hostile())], 0), ([Hostile()], 0),
+            ([("a", "b"), ("a", "b"), ("a", 1), None], 2), ([("", "")] * 3 + [("a" * 12, "a" * 13)], 3))
+
 
 def all_rows(signs, most):
     for many in range(most + 1):
@@ -219,6 +228,33 @@ def put_together(rooms, ways, goal, one, other):
     return rooms - 1, sorted(moved), number[goal]
 
 
+def numbered_anew(rooms, ways, goal):
+    """A straight machine's ways and goal, its rooms numbered as one comes to them, and these numbers."""
+    order = [0]
+    for room in order:
+        for sign in ALL_SIGNS:
+            for other in rooms_by(ways, sign, (room,)):
+                if other not in order:
+                    order.append(other)
+    number = {room: order.index(room) for room in range(rooms)}
+    return sorted({(number[one], deed, number[other]) for one, deed, other in ways}), number[goal], number
+
+
+def folded_by_chance(source, rooms, ways, goal):
+    """What comes of folding some two rooms that must be one, again and again, and the number of each room then."""
+    numbers = list(range(rooms))
+    while folds_of(ways):
+        one, other = source.choice(folds_of(ways))
+        for room, number in enumerate(numbers):
+            if number == other:
+                numbers[room] = one
+            elif number > other:
+                numbers[room] = number - 1
+        rooms, ways, goal = put_together(rooms, ways, goal, one, other)
+    ways, goal, number = numbered_anew(rooms, ways, goal)
+    return rooms, ways, goal, [number[room] for room in numbers]
+
+
 def one_by_looks(rooms, ways):
     """For each two rooms that are one where a machine is folded a row that leads from the one to the other and looks.
 
@@ -244,6 +280,58 @@ def looks_through(rooms, ways):
         more = {two: row for two, row in more.items() if two not in looks}
         looks.update(more)
     return looks
+
+
+def some_pairs(source, most=4):
+    """Some told pairs, most of them short."""
+    signs = ALL_SIGNS[:2 * source.randint(1, 3)]
+    long = source.choice((1, 2, 2, 3, 4, 12))
+    return [tuple("".join(source.choice(signs) for sign in range(source.randint(0, long))) for row in range(2))
+            for pair in range(source.randint(0, most))]
+
+
+class Plainly:
+    """A sewing told anew: ways by all signs of a row put in, and any two rooms folded as long as there are such."""
+
+    def __init__(self, source, row, pairs):
+        self.source, self.pairs = source, pairs
+        places = places_of(row)
+        ways = set()
+        for place in places[1:]:
+            two = places.index(place[:-1]), places.index(place)
+            ways.add((two[0], place[-1], two[1]) if place[-1].islower() else (two[1], place[-1].lower(), two[0]))
+        self.fold(len(places), sorted(ways), places.index(taken_out(row)))
+
+    def fold(self, rooms, ways, goal):
+        self.rooms, self.ways, self.goal, numbers = folded_by_chance(self.source, rooms, ways, goal)
+
+    def lead(self, row, room):
+        rooms = rooms_by(self.ways, row, (room,))
+        return min(rooms) if rooms else None
+
+    def tells(self, row):
+        return rooms_by(self.ways, row) == {self.goal}
+
+    def due(self):
+        for room, (number, pair), turned in itertools.product(range(self.rooms), enumerate(self.pairs), (False, True)):
+            one, other = pair[::-1] if turned else pair
+            if self.lead(one, room) not in (None, self.lead(other, room)):
+                return room, number, turned
+        return None
+
+    def sew(self, room, pair, turned):
+        one, other = self.pairs[pair][::-1] if turned else self.pairs[pair]
+        end = self.lead(one, room)
+        rooms, ways, goal = self.rooms, list(self.ways), self.goal
+        if other == "":
+            if end != room:
+                rooms, ways, goal = put_together(rooms, ways, goal, room, end)
+        else:
+            through = [room, *range(rooms, rooms + len(other) - 1), end]
+            rooms += len(other) - 1
+            for sign, first, last in zip(other, through, through[1:]):
+                ways.append((first, sign, last) if sign.islower() else (last, sign.lower(), first))
+        self.fold(rooms, ways, goal)
 
 
 def source_of(seed):

@@ -3,40 +3,13 @@
 import itertools
 import unittest
 
-from samples import (ALL_SIGNS, NO_ROWS, ODD_THINGS, Hostile, all_rows, back_and_forth, folds_of, one_by_looks,
-                     places_of, put_together, rooms_by, shape_of, some_machine, some_row, source_of, taken_out)
+from samples import (NO_ROWS, ODD_THINGS, Hostile, all_rows, back_and_forth, folded_by_chance, one_by_looks, places_of,
+                     rooms_by, shape_of, some_machine, some_row, source_of, taken_out)
 from undotrees.errors import NoRow
 from undotrees.folding import folded, folds_for, lets_folds, tells
 from undotrees.machines import Machine
 from undotrees.rows import is_row
 from undotrees.within import does_more
-
-
-def numbered_anew(rooms, ways, goal):
-    """A straight machine's ways and goal, its rooms numbered as one comes to them, and these numbers."""
-    order = [0]
-    for room in order:
-        for sign in ALL_SIGNS:
-            for other in rooms_by(ways, sign, (room,)):
-                if other not in order:
-                    order.append(other)
-    number = {room: order.index(room) for room in range(rooms)}
-    return sorted({(number[one], deed, number[other]) for one, deed, other in ways}), number[goal], number
-
-
-def folded_by_chance(source, rooms, ways, goal):
-    """What comes of folding some two rooms that must be one, again and again, and the number of each room then."""
-    numbers = list(range(rooms))
-    while folds_of(ways):
-        one, other = source.choice(folds_of(ways))
-        for room, number in enumerate(numbers):
-            if number == other:
-                numbers[room] = one
-            elif number > other:
-                numbers[room] = number - 1
-        rooms, ways, goal = put_together(rooms, ways, goal, one, other)
-    ways, goal, number = numbered_anew(rooms, ways, goal)
-    return rooms, ways, goal, [number[room] for room in numbers]
 
 
 def told_by_looks(rooms, ways, goal, row):

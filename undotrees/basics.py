@@ -1,4 +1,4 @@
-"""What the files of the package share: whole numbers, deeds and signs."""
+"""What the files of the package share: whole numbers, deeds, signs and names."""
 
 DEEDS = ("a", "b", "c", "d", "e", "f")
 
@@ -9,6 +9,9 @@ CONTRARIES = {
     "a": "A", "A": "a", "b": "B", "B": "b", "c": "C", "C": "c",
     "d": "D", "D": "d", "e": "E", "E": "e", "f": "F", "F": "f",
 }
+
+LETTERS = "abcdefghijklmnopqrstuvwxyz"
+MOST_LETTERS = 8
 
 
 def is_whole(thing):
@@ -26,3 +29,10 @@ def is_deed(thing):
     """Whether a thing, of anything, is a deed."""
     # A thing that is no text might fail when it is compared, so the kind is asked first.
     return isinstance(thing, str) and thing in DEEDS
+
+
+def is_name(thing):
+    """Whether a thing, of anything, is a name of one to eight small letters."""
+    if not isinstance(thing, str) or not 1 <= len(thing) <= MOST_LETTERS:
+        return False
+    return all([letter in LETTERS for letter in thing])

@@ -95,12 +95,18 @@ class Walk:
         return made
 
 
+def places_from(place, signs):
+    """The places to which one comes by signs, one by one, from a place on, this one too."""
+    rows = [place]
+    for sign in signs:
+        rows.append(gone_on(rows[-1], sign))
+    return rows
+
+
 def walk_of(row):
     """The walk of a row."""
     check_row(row)
-    rows = [""]
-    for sign in row:
-        rows.append(gone_on(rows[-1], sign))
+    rows = places_from("", row)
     return Walk(each_once(rows), rows[-1])
 
 
